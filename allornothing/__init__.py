@@ -1,0 +1,1 @@
+"""All or nothing: what is left when a throw leaves a function."""
