@@ -5,7 +5,19 @@ import pathlib
 import unittest
 
 PACKAGE = pathlib.Path(__file__).resolve().parent.parent / 'allornothing'
-FUNCTIONS = {'texts': ('parse', 'is_name'), 'printing': ('show',)}
+DEFINED = {
+    'texts': ('parse', 'is_name'),
+    'printing': ('show',),
+    'programs': ('Program',),
+    'machine': ('Machine',),
+    'campaigns': ('campaign', 'exposed'),
+    'rows': ('reduced', 'kernel', 'product'),
+}
+METHODS = {
+    'programs': ('kinds keeps functions tree __getitem__ __contains__ __len__ __eq__ statements variables callees reached '
+                 'places replaced read cases cells'),
+    'machine': '__call__ passings replayed runs injected injections within',
+}
 
 
 class TestLayout(unittest.TestCase):
@@ -24,9 +36,14 @@ class TestLayout(unittest.TestCase):
                     if isinstance(node, ast.FunctionDef):
                         self.assertLessEqual(node.end_lineno - node.lineno + 1, 40, node.name)
 
-    def test_functions_stand_in_their_files(self):
-        for module, names in FUNCTIONS.items():
-            tree = ast.parse((PACKAGE / (module + '.py')).read_text(encoding='ascii'))
-            defined = [node.name for node in tree.body if isinstance(node, ast.FunctionDef)]
+    def test_interface_stands_in_its_files(self):
+        for module, names in DEFINED.items():
+            body = ast.parse((PACKAGE / (module + '.py')).read_text(encoding='ascii')).body
+            defined = [node.name for node in body if isinstance(node, (ast.FunctionDef, ast.ClassDef))]
             for name in names:
                 self.assertIn(name, defined)
+            if module in METHODS:
+                inner = [node for node in body if isinstance(node, ast.ClassDef) and node.name == names[0]][0].body
+                methods = [node.name for node in inner if isinstance(node, ast.FunctionDef)]
+                for name in METHODS[module].split():
+                    self.assertIn(name, methods)
