@@ -1,6 +1,7 @@
 """Runs with each of the throws injected that they pass by."""
 
 from allornothing.machine import Machine
+from allornothing.shapes import listed
 
 
 def campaign(program, name, case, entry, choices, *, most=1):
@@ -33,11 +34,8 @@ def injected_at(program, passed, injections, start):
 
 def kinds_at(program, function, place):
     """Return the different kinds of the risk at a place, in order."""
-    found = []
-    for at, statement in program.statements(function):
-        if at == place:
-            found = statement[1]
-    return [kind for at, kind in enumerate(found) if kind not in found[:at]]
+    kinds = listed(program[function][2])[place][1]
+    return [kind for at, kind in enumerate(kinds) if kind not in kinds[:at]]
 
 
 def exposed(program, name, case, entry, choices, *, most=1):

@@ -31,10 +31,9 @@ def nodes_of(block, place):
 
 
 class Body:
-    """A function: its name, its parameters, its locals and the nodes of its block."""
+    """A function: its parameters, its locals and the nodes of its block."""
 
     def __init__(self, shared, function):
-        self.name = function[0]
         self.params = function[1]
         self.own = locals_of(shared, function)
         self.nodes = nodes_of(function[2], 0)

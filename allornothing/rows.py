@@ -8,18 +8,13 @@ from allornothing.integers import are_integers
 
 def reduced(rows, width):
     """Return the reduced rows with the span of a list of rows."""
-    check_rows(rows, width)
-    found = []
-    for row in rows:
-        found = joined(found, row)
-    return found
+    return rows_of_table(table_of(rows, width))
 
 
 def kernel(rows, width):
     """Return rows that span those whose product with each of the rows is 0."""
-    found = reduced(rows, width)
-    leads = [lead_of(row) for row in found]
-    return [kernel_row(found, leads, at, width) for at in range(width) if at not in leads]
+    table = table_of(rows, width)
+    return [kernel_row(table, at, width) for at in range(width) if at not in table]
 
 
 def product(one, other):
@@ -30,12 +25,6 @@ def product(one, other):
 def is_row(value, width):
     """Tell whether any value is a row of this width."""
     return isinstance(value, tuple) and len(value) == width and are_integers(value)
-
-
-def check_rows(rows, width):
-    for row in rows:
-        if not is_row(row, width):
-            raise InvalidRow(row)
 
 
 def lead_of(row):
@@ -60,39 +49,62 @@ def primitive(row):
 
 def cleared(row, other, lead):
     """Return a multiple of a row, less one of the other row, that has 0 at the place."""
-    if row[lead] == 0:
-        return row
     factor = other[lead]
     times = row[lead]
+    if times == 0:
+        return row
+    if factor == 1:
+        return tuple([number - times * taken for number, taken in zip(row, other)])
+    # Without this, the numbers would grow with each row.
     return primitive([factor * number - times * taken for number, taken in zip(row, other)])
 
 
-def rest_of(found, row):
-    """Return what is left of a row behind reduced rows: zeros if they span it."""
-    rest = primitive(row)
-    for other in found:
-        rest = cleared(rest, other, lead_of(other))
+def table_of(rows, width):
+    """Return the table of the reduced rows with the span of some rows.
+
+    A table is a dict from the places of the first numbers other than 0 to the
+    reduced rows.
+    """
+    for row in rows:
+        if not is_row(row, width):
+            raise InvalidRow(row)
+    table = {}
+    for row in rows:
+        table = joined(table, row)
+    return table
+
+
+def rows_of_table(table):
+    """Return the list of the reduced rows of a table."""
+    return [table[lead] for lead in sorted(table)]
+
+
+def rest_of(table, row):
+    """Return what is left of a row behind the rows of a table: zeros if they span it."""
+    rest = row
+    for lead, other in table.items():
+        rest = cleared(rest, other, lead)
     return rest
 
 
-def joined(found, row):
-    """Return the reduced rows with the span of reduced rows and one more row."""
-    rest = rest_of(found, row)
+def joined(table, row):
+    """Return the table with the span of a table and one more row."""
+    rest = primitive(rest_of(table, row))
     lead = lead_of(rest)
     if lead == len(rest):
-        return found
-    before = [cleared(other, rest, lead) for other in found if lead_of(other) < lead]
-    behind = [other for other in found if lead_of(other) > lead]
-    return before + [rest] + behind
+        return table
+    found = {at: primitive(cleared(other, rest, lead)) for at, other in table.items()}
+    found[lead] = rest
+    return found
 
 
-def kernel_row(found, leads, free, width):
-    """Return the row of the kernel that has 0 at all free places but one."""
+def kernel_row(table, free, width):
+    """Return the row of the kernel that has 0 at all places that lead no row, but for one."""
     scale = 1
-    for row, lead in zip(found, leads):
+    for lead, row in table.items():
         scale = lcm(scale, row[lead])
     numbers = [0] * width
     numbers[free] = scale
-    for row, lead in zip(found, leads):
+    for lead, row in table.items():
         numbers[lead] = -row[free] * scale // row[lead]
     return primitive(numbers)

@@ -61,6 +61,8 @@ class TestCampaign(unittest.TestCase):
                 left = {(place, kind) for _, (kind, place, cells, _, _) in expected
                         if kind is not None and cells != args[2][:len(cells)]}
                 self.assertEqual(exposed(sample.program, *args, most=most), sorted(left))
+                if most == 1:
+                    self.assertEqual(exposed(sample.program, *args), sorted(left))
                 many += len(expected)
             self.assertEqual(args[3], given)
         self.assertGreater(many, 500)
@@ -110,6 +112,11 @@ class TestCampaign(unittest.TestCase):
         self.assertEqual(exposed(program, 'f', ('p',), (1, 2, 4, 4), []), [(2, 'k'), (2, 'l'), (4, 'k')])
         self.assertEqual(exposed(program, 'f', ('p',), (1, 2, 0, 0), []), [])
         self.assertEqual(exposed(program, 'f', ('b',), (1, 2, 0), []), [(4, 'k'), (6, 'l')])
+
+    def test_one_is_the_default(self):
+        program = Program.read('globals a kinds k l def f() { try { risk k } except k { a = 1 } risk l }')
+        self.assertEqual(exposed(program, 'f', (), (0,), []), [])
+        self.assertEqual(exposed(program, 'f', (), (0,), [], most=2), [(3, 'l')])
 
     def test_arguments(self):
         program = Program.read('globals a kinds k def f() { risk k }')

@@ -105,6 +105,17 @@ class TestInjected(unittest.TestCase):
             self.refused([value], value)
             self.refused([('f', 4, 1, 'l'), value, None], value)
 
+    def test_places_of_risks_only(self):
+        program = Program.read('globals a kinds k def f() { risk k raise k k() try { } except k { } undo a { } risk k } def k1() { }'
+                               .replace('k()', 'k1()'))
+        machine = Machine(program)
+        for place in range(-7, 8):
+            if place in (0, 5):
+                self.assertEqual(machine.injected([('f', place, 1, 'k')]).injections(), [('f', place, 1, 'k')])
+            else:
+                with self.assertRaises(InvalidInjection):
+                    machine.injected([('f', place, 1, 'k')])
+
     def test_repeated(self):
         again = ('f', 1, 1, 'k')
         self.refused([ONE, again], again)
