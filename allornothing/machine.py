@@ -97,10 +97,14 @@ def given_by(params, case, cells):
     return given
 
 
+def entry_size(program, name, case):
+    """Return how many values an entry has: cells and parameters by value."""
+    return len(program.cells(name, case)) + len(program[name][1]) - len(program.places(name))
+
+
 def check_entry(program, name, case, entry):
     """Raise the first error about a function, a case and an entry."""
-    cells = program.cells(name, case)
-    size = len(cells) + len(program[name][1]) - len(program.places(name))
+    size = entry_size(program, name, case)
     if not isinstance(entry, tuple) or len(entry) != size or not are_integers(entry):
         raise InvalidEntry(entry)
 

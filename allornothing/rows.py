@@ -51,8 +51,6 @@ def cleared(row, other, lead):
     """Return a multiple of a row, less one of the other row, that has 0 at the place."""
     factor = other[lead]
     times = row[lead]
-    if times == 0:
-        return row
     if factor == 1:
         return tuple([number - times * taken for number, taken in zip(row, other)])
     # Without this, the numbers would grow with each row.
@@ -83,7 +81,8 @@ def rest_of(table, row):
     """Return what is left of a row behind the rows of a table: zeros if they span it."""
     rest = row
     for lead, other in table.items():
-        rest = cleared(rest, other, lead)
+        if rest[lead] != 0:
+            rest = cleared(rest, other, lead)
     return rest
 
 
@@ -93,7 +92,7 @@ def joined(table, row):
     lead = lead_of(rest)
     if lead == len(rest):
         return table
-    found = {at: primitive(cleared(other, rest, lead)) for at, other in table.items()}
+    found = {at: other if other[lead] == 0 else primitive(cleared(other, rest, lead)) for at, other in table.items()}
     found[lead] = rest
     return found
 

@@ -12,11 +12,16 @@ DEFINED = {
     'machine': ('Machine',),
     'campaigns': ('campaign', 'exposed'),
     'rows': ('reduced', 'kernel', 'product'),
+    'spaces': ('Space',),
+    'traces': ('traced',),
+    'summaries': ('Analysis',),
 }
 METHODS = {
     'programs': ('kinds keeps functions tree __getitem__ __contains__ __len__ __eq__ statements variables callees reached '
                  'places replaced read cases cells'),
     'machine': '__call__ passings replayed runs injected injections within',
+    'spaces': 'width rows __contains__ __len__ __bool__ __eq__ __or__ is_within',
+    'summaries': 'returns leaves',
 }
 
 

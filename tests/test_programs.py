@@ -104,6 +104,10 @@ class TestQuestions(unittest.TestCase):
             self.assertEqual(self.program.reached(name), reached[name])
         program = Program.read('def c() { b() } def b() { a() } def a() { } def d() { e() } def e() { d() }')
         self.assertEqual([program.reached(name) for name in 'abcde'], [[], ['a'], ['a', 'b'], ['d', 'e'], ['d', 'e']])
+        chain = Program.read('def a() { b() } def b() { c() } def c() { d() } def d() { e() f() } def e() { } def f() { c() }')
+        self.assertEqual([chain.reached(name) for name in 'abcdef'],
+                         [['b', 'c', 'd', 'e', 'f'], ['c', 'd', 'e', 'f'], ['c', 'd', 'e', 'f'], ['c', 'd', 'e', 'f'], [],
+                          ['c', 'd', 'e', 'f']])
         self.assertEqual([program.callees(name=name) for name in 'abcde'], [[], ['a'], ['b'], ['e'], ['d']])
 
     def test_places(self):

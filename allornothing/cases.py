@@ -1,0 +1,10 @@
+"""Cases that are asked for."""
+
+
+def asked_case(program, name, case):
+    """Return the case that is asked for: None is the one with cells of their own."""
+    if case is None:
+        return tuple(program.places(name))
+    # This raises InvalidCase for what is none.
+    program.cells(name, case)
+    return case

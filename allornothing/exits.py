@@ -1,0 +1,93 @@
+"""Where runs go on that leave blocks.
+
+An ending is None for a return, or the pair (place, kind) of a throw.
+"""
+
+from allornothing.points import Called, Drop, End, Finish, Restore
+
+
+class Exits:
+    """The ways out of a block, which lead into those of the block around it."""
+
+    def __init__(self, outer):
+        self.outer = outer
+        self.points = {}
+
+    def towards(self, ending):
+        """Return the point where a run goes on that leaves the block so."""
+        if ending not in self.points:
+            self.points[ending] = self.made(ending)
+        return self.points[ending]
+
+    def made(self, ending):
+        return self.outer.towards(ending)
+
+
+class BodyExits(Exits):
+    """The ways out of a function: its ends so far, and the points that call it."""
+
+    def __init__(self, layout):
+        Exits.__init__(self, None)
+        self.layout = layout
+        self.ends = []
+        self.callers = []
+
+    def made(self, ending):
+        end = End(ending, self.callers)
+        self.ends.append(end)
+        return Finish(end, self.layout)
+
+
+class HandledExits(Exits):
+    """The ways out of the block of a try, with the pairs (kinds, point) of its handlers."""
+
+    def __init__(self, outer, handlers):
+        Exits.__init__(self, outer)
+        self.handlers = handlers
+
+    def made(self, ending):
+        if ending is not None:
+            for kinds, point in self.handlers:
+                if ending[1] in kinds:
+                    return point
+        return self.outer.towards(ending)
+
+
+class LastExits(Exits):
+    """The ways out of a try with its handlers, all of them through its finally."""
+
+    def __init__(self, outer, builder, nodes):
+        Exits.__init__(self, outer)
+        self.builder = builder
+        self.nodes = nodes
+
+    def made(self, ending):
+        return self.builder.block(self.nodes, self.outer.towards(ending), self.outer)
+
+
+class UndoExits(Exits):
+    """The ways out of an undo."""
+
+    def __init__(self, outer, slots):
+        Exits.__init__(self, outer)
+        self.slots = slots
+
+    def made(self, ending):
+        ahead = self.outer.towards(ending)
+        return Drop(ahead, self.slots) if ending is None else Restore(ahead, self.slots)
+
+
+class WithExits(Exits):
+    """The ways out of the block of a with, all of them through its second call."""
+
+    def __init__(self, outer, node, site, ahead):
+        Exits.__init__(self, outer)
+        self.place = node.place
+        self.swallowed = node.statement[3]
+        self.site = site
+        self.ahead = ahead
+
+    def made(self, ending):
+        is_swallowed = ending is not None and ending[1] in self.swallowed
+        ahead = self.ahead if is_swallowed else self.outer.towards(ending)
+        return Called(0, ahead, self.site, None, self.place, self.outer)

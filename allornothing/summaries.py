@@ -1,0 +1,96 @@
+"""What all runs of functions do, told by a few runs.
+
+The runs with the fewest statements come first at each point, so what is kept
+there spans all others and has the fewest statements that can do so. Of equal
+ones those with fewer active calls and smaller choices come first; so what is
+kept does not depend on what was asked before.
+"""
+
+from heapq import heappop, heappush
+
+from allornothing.builders import Builder
+from allornothing.cases import asked_case
+from allornothing.engine import MOST_CALLS, MOST_STEPS
+from allornothing.layouts import Layout
+from allornothing.points import Called, End, Track
+
+
+class Analysis:
+    """Tells runs that span all runs of the functions of a program."""
+
+    def __init__(self, program):
+        self.program = program
+        self._exits = {}
+        self._queue = []
+        self._sent = 0
+
+    def returns(self, name, case=None):
+        """Return runs (matrix, choices) that span those that return."""
+        found = []
+        for end in self._ends(name, case):
+            if end.ending is None:
+                found = runs_of(end)
+        return found
+
+    def leaves(self, name, case=None):
+        """Return a dict from the throws (place, kind) that leave a function to such runs."""
+        ends = self._ends(name, case)
+        return {end.ending: runs_of(end) for end in ends if end.ending is not None and end.kept}
+
+    def _ends(self, name, case):
+        """Return the ends of a function when all that it needs is known."""
+        exits = self._asked(name, asked_case(self.program, name, case))
+        while self._queue:
+            point, track = heappop(self._queue)[4:]
+            if point.takes(track):
+                self._go_on(point, track)
+        return exits.ends
+
+    def _asked(self, name, case):
+        """Return the ways out of a function in a case, from now on."""
+        if (name, case) not in self._exits:
+            layout = Layout(self.program, name, case)
+            builder = Builder(layout)
+            self._exits[(name, case)] = builder.exits
+            self._send(builder.body(), Track(0, 1, (), layout.start()))
+        return self._exits[(name, case)]
+
+    def _send(self, point, track):
+        """Let a track go on to a point that may keep it, within the limits of the machine."""
+        while point.is_move:
+            track = point.moved(track)
+            point = point.ahead
+        if track.steps <= MOST_STEPS and track.calls <= MOST_CALLS and not point.has_seen(track):
+            self._sent += 1
+            heappush(self._queue, (track.steps, track.calls, track.choices, self._sent, point, track))
+
+    def _go_on(self, point, track):
+        """Send what comes behind a track that a point has kept."""
+        if isinstance(point, Called):
+            self._call(point)
+        elif isinstance(point, End):
+            for caller in point.callers:
+                for at in range(len(caller.kept)):
+                    self._send_after(caller, at, point, len(point.kept) - 1)
+        else:
+            for ahead, behind in point.onward(track):
+                self._send(ahead, behind)
+
+    def _call(self, point):
+        """Send what comes behind the last track that a call has kept."""
+        exits = self._asked(point.site.name, point.site.case)
+        if not point.is_known:
+            point.is_known = True
+            exits.callers.append(point)
+        # A throw that is new here may be a new end of the same function.
+        for end in list(exits.ends):
+            for number in range(len(end.kept)):
+                self._send_after(point, len(point.kept) - 1, end, number)
+
+    def _send_after(self, caller, at, end, number):
+        ahead, behind = caller.after(at, end, number)
+        self._send(ahead, behind)
+
+
+def runs_of(end):
+    return [(tuple(track.state), track.choices) for track in end.kept]
