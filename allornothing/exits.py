@@ -27,22 +27,21 @@ class BodyExits(Exits):
     """The ways out of a function: its ends so far, and the points that call it."""
 
     def __init__(self, layout):
-        Exits.__init__(self, None)
+        super().__init__(None)
         self.layout = layout
-        self.ends = []
+        self.ends = {}
         self.callers = []
 
     def made(self, ending):
-        end = End(ending, self.callers)
-        self.ends.append(end)
-        return Finish(end, self.layout)
+        self.ends[ending] = End(ending, self.callers)
+        return Finish(self.ends[ending], self.layout)
 
 
 class HandledExits(Exits):
     """The ways out of the block of a try, with the pairs (kinds, point) of its handlers."""
 
     def __init__(self, outer, handlers):
-        Exits.__init__(self, outer)
+        super().__init__(outer)
         self.handlers = handlers
 
     def made(self, ending):
@@ -57,7 +56,7 @@ class LastExits(Exits):
     """The ways out of a try with its handlers, all of them through its finally."""
 
     def __init__(self, outer, builder, nodes):
-        Exits.__init__(self, outer)
+        super().__init__(outer)
         self.builder = builder
         self.nodes = nodes
 
@@ -69,7 +68,7 @@ class UndoExits(Exits):
     """The ways out of an undo."""
 
     def __init__(self, outer, slots):
-        Exits.__init__(self, outer)
+        super().__init__(outer)
         self.slots = slots
 
     def made(self, ending):
@@ -81,7 +80,7 @@ class WithExits(Exits):
     """The ways out of the block of a with, all of them through its second call."""
 
     def __init__(self, outer, node, site, ahead):
-        Exits.__init__(self, outer)
+        super().__init__(outer)
         self.place = node.place
         self.swallowed = node.statement[3]
         self.site = site

@@ -14,7 +14,6 @@ class Layout:
     def __init__(self, program, name, case):
         self.program = program
         self.name = name
-        self.case = case
         self.cells = program.cells(name, case)
         function = program[name]
         by_value = [param for param, by_place in function[1] if not by_place]

@@ -39,20 +39,20 @@ class Move:
 class Assign(Move):
     """Assigns an expression to a slot."""
 
-    def __init__(self, begun, ahead, slot, total):
-        Move.__init__(self, begun, ahead)
+    def __init__(self, begun, ahead, slot, pairs):
+        super().__init__(begun, ahead)
         self.slot = slot
-        self.total = total
+        self.pairs = pairs
 
     def changed(self, state):
-        return put(state, self.slot, worth(state, self.total))
+        return put(state, self.slot, worth(state, self.pairs))
 
 
 class Save(Move):
     """Keeps the values of some slots."""
 
     def __init__(self, ahead, slots):
-        Move.__init__(self, 1, ahead)
+        super().__init__(1, ahead)
         self.slots = slots
 
     def changed(self, state):
@@ -63,7 +63,7 @@ class Drop(Move):
     """Gives up the values that were kept last."""
 
     def __init__(self, ahead, slots):
-        Move.__init__(self, 0, ahead)
+        super().__init__(0, ahead)
         self.slots = slots
 
     def changed(self, state):
@@ -85,7 +85,7 @@ class Finish(Move):
     """Makes the state at the end of a function a matrix."""
 
     def __init__(self, ahead, layout):
-        Move.__init__(self, 0, ahead)
+        super().__init__(0, ahead)
         self.layout = layout
 
     def changed(self, state):
@@ -129,7 +129,7 @@ class Fork(Point):
     """Takes a choice: the index of one of the ways."""
 
     def __init__(self, begun, ways):
-        Point.__init__(self)
+        super().__init__()
         self.begun = begun
         self.ways = ways
 
@@ -145,7 +145,7 @@ class Input(Point):
     """Takes a choice and assigns it: those of 0 and 1 span all others."""
 
     def __init__(self, ahead, slot):
-        Point.__init__(self)
+        super().__init__()
         self.ahead = ahead
         self.slot = slot
 
@@ -161,14 +161,13 @@ class Called(Point):
     """Makes a call of the statement at a place; exits tells where its throws go on."""
 
     def __init__(self, begun, ahead, site, target, place, exits):
-        Point.__init__(self)
+        super().__init__()
         self.begun = begun
         self.ahead = ahead
         self.site = site
         self.target = target
         self.place = place
         self.exits = exits
-        self.is_known = False
         self.entries = []
 
     def takes(self, track):
@@ -199,7 +198,7 @@ class End(Point):
     """
 
     def __init__(self, ending, callers):
-        Point.__init__(self)
+        super().__init__()
         self.ending = ending
         self.callers = callers
         self.totals = []

@@ -26,19 +26,15 @@ class Analysis:
 
     def returns(self, name, case=None):
         """Return runs (matrix, choices) that span those that return."""
-        found = []
-        for end in self._ends(name, case):
-            if end.ending is None:
-                found = runs_of(end)
-        return found
+        return runs_of(self._ends(name, case)[None])
 
     def leaves(self, name, case=None):
         """Return a dict from the throws (place, kind) that leave a function to such runs."""
         ends = self._ends(name, case)
-        return {end.ending: runs_of(end) for end in ends if end.ending is not None and end.kept}
+        return {ending: runs_of(end) for ending, end in ends.items() if ending is not None and end.kept}
 
     def _ends(self, name, case):
-        """Return the ends of a function when all that it needs is known."""
+        """Return a dict of the ends of a function when all that it needs is known."""
         exits = self._asked(name, asked_case(self.program, name, case))
         while self._queue:
             point, track = heappop(self._queue)[4:]
@@ -79,11 +75,10 @@ class Analysis:
     def _call(self, point):
         """Send what comes behind the last track that a call has kept."""
         exits = self._asked(point.site.name, point.site.case)
-        if not point.is_known:
-            point.is_known = True
+        if len(point.kept) == 1:
             exits.callers.append(point)
         # A throw that is new here may be a new end of the same function.
-        for end in list(exits.ends):
+        for end in list(exits.ends.values()):
             for number in range(len(end.kept)):
                 self._send_after(point, len(point.kept) - 1, end, number)
 

@@ -54,7 +54,7 @@ class Oracle:
         self.used = 0
         self.ways = []
         self.steps = 0
-        self.calls = 0
+        self.calls = self.deepest = 0
         self.passings = []
         self.replay = []
         numbers = list(entry)
@@ -93,6 +93,7 @@ class Oracle:
         self.calls += 1
         if self.calls > 20:
             raise TooFar('calls')
+        self.deepest = max(self.deepest, self.calls)
         try:
             self.block(name, boxes, self.functions[name][1])
         except Returned as returned:

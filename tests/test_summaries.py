@@ -9,6 +9,7 @@ from allornothing.programs import Program
 from allornothing.rows import reduced
 from allornothing.summaries import Analysis
 from allornothing.traces import traced
+from oracle import Oracle
 from samples import Sample
 from test_traces import size_of
 
@@ -190,6 +191,64 @@ class TestCalls(Checked):
         self.check_all('globals a kinds k def f() { g() g() } def g() { h() h() } def h() { i() i() } def i() { a = a + 1 risk k }')
         text = 'globals a b c d kinds k def f(&p, &q) { u = p p = q q = d d = c c = b b = a a = u + 1 if { f(&q, &p) } else { risk k } b = b + d }'
         self.check_all(text, many=60)
+
+
+class TestFewest(Checked):
+    """The runs that are told have the fewest statements, and then the fewest active calls."""
+
+    def effort(self, program, name, case, choices):
+        oracle = Oracle(program.tree())
+        oracle.run(name, case, (0,) * size_of(program, name, case), choices)
+        return oracle.steps, oracle.deepest
+
+    def check_fewest(self, program, name, case, most):
+        told = told_by(Analysis(program), name, case)
+        if not all(len(choices) <= most for runs in told.values() for _, choices in runs):
+            return 0
+        runs = {}
+        for choices, _ in Machine(program).runs(name, case, (0,) * size_of(program, name, case), most):
+            ending, matrix, _ = traced(program, name, case, choices)
+            runs.setdefault(ending, []).append((self.effort(program, name, case, choices), flat(matrix)))
+        for ending, found in told.items():
+            wanted = []
+            rows = []
+            for effort, row in sorted(runs[ending]):
+                if len(reduced(rows + [row], len(row))) > len(rows):
+                    rows.append(row)
+                    wanted.append(effort)
+            self.assertEqual([self.effort(program, name, case, choices) for _, choices in found], wanted,
+                             (program.tree(), name, case, ending))
+        return len(told)
+
+    def test_by_hand(self):
+        for text, most in (
+                ('globals a kinds k def f() { if { a = 1 a = 1 } else { a = 1 } risk k }', 3),
+                ('globals a b kinds k def f() { while { a = a + b b = b + 1 } risk k }', 6),
+                ('globals a kinds k def f(x) { if { g() a = x } else { a = x a = x } try { a = a + 1 risk k } finally { } } def g() { }', 4),
+                ('globals a kinds k def f(x) { if { a = x a = x } else { g() a = x } } def g() { }', 4),
+                ('globals a kinds k def f(x) { if { g() } else { h() } risk k } def g() { g2() } def g2() { a = 1 } def h() { a = 1 a = 1 }', 4),
+                ('globals a kinds k def f(x) { if { g(x) } else { h() } risk k } def g(y) { if { g(y) } else { a = y } } def h() { i() } '
+                 'def i() { j() } def j() { a = 2 }', 6),
+                ('globals a kinds k def f(x) { if { undo a { a = x raise k } } else { a = ? if { raise k } else { with g(), g() { a = 1 } } } } '
+                 'def g() { a = a + 1 }', 6),
+                ('globals a kinds k def f(x) { if { undo a { a = x return x } } else { try { raise k } except k { return x } } }', 6)):
+            program = Program.read(text)
+            self.assertGreater(self.check_fewest(program, 'f', (), most), 0)
+
+    def test_random(self):
+        many = 0
+        for start in range(5000, 5400):
+            sample = Sample(start, functions=3, most=3, depth=2)
+            for name in sample.names:
+                many += self.check_fewest(sample.program, name, sample.case(name), 5)
+        self.assertGreater(many, 500)
+
+    def test_runs_stay_within_the_limits_of_the_machine(self):
+        # Each return begins more than 4000 statements, so no run of the machine returns.
+        text = 'globals a kinds k def f() { if { raise k } ' + 'g() ' * 8 + '} '
+        for one, other in ('gh', 'hi', 'ij'):
+            text += 'def ' + one + '() { ' + (other + '() ') * 8 + '} '
+        self.assertEqual(self.counts(text + 'def j() { a = a + 1 ' + 'a = a ' * 7 + '}'), {(1, 'k'): 1})
 
 
 class TestRandom(Checked):
