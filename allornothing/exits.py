@@ -49,7 +49,7 @@ class HandledExits(Exits):
             for kinds, point in self.handlers:
                 if ending[1] in kinds:
                     return point
-        return self.outer.towards(ending)
+        return super().made(ending)
 
 
 class LastExits(Exits):

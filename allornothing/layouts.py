@@ -14,14 +14,14 @@ class Layout:
     def __init__(self, program, name, case):
         self.program = program
         self.name = name
-        self.cells = program.cells(name, case)
+        self.cell_names = program.cells(name, case)
         function = program[name]
         by_value = [param for param, by_place in function[1] if not by_place]
-        names = list(self.cells) + by_value + locals_of(program.globals, function)
+        names = list(self.cell_names) + by_value + locals_of(program.globals, function)
         self.slots = {variable: at + 1 for at, variable in enumerate(names)}
         for param, cell in zip(program.places(name), case):
             self.slots[param] = self.slots[cell]
-        self.columns = 1 + len(self.cells) + len(by_value)
+        self.columns = 1 + len(self.cell_names) + len(by_value)
         self.result = 1 + len(names)
 
     def start(self):
@@ -40,7 +40,7 @@ class Layout:
     def matrix(self, state, returns):
         """Return the matrix of a run that ends in a state, by a return or by a throw."""
         result = state[self.result] if returns else (0,) * self.columns
-        return tuple(state[:len(self.cells) + 1]) + (result,)
+        return tuple(state[:len(self.cell_names) + 1]) + (result,)
 
 
 class Site:
@@ -60,12 +60,12 @@ class Site:
                 case.append(owner)
         self.name = name
         self.case = tuple(case)
-        self.cells = [slots[cell] for cell in program.cells(name, self.case)]
+        self.cell_slots = [slots[cell] for cell in program.cells(name, self.case)]
         self.totals = [layout.total(held) for word, held in args if word == "value"]
 
     def entry_in(self, state):
         """Return the rows for 1 and for the entry of the called function, in a state."""
-        return [state[0]] + [state[slot] for slot in self.cells] + [worth(state, total) for total in self.totals]
+        return [state[0]] + [state[slot] for slot in self.cell_slots] + [worth(state, total) for total in self.totals]
 
 
 def pairs_of(row):

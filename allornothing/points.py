@@ -182,7 +182,7 @@ class Called(Point):
         told = end.kept[number]
         rows = [worth(self.entries[at], pairs) for pairs in end.totals[number]]
         state = list(track.state)
-        for slot, row in zip(self.site.cells, rows[1:]):
+        for slot, row in zip(self.site.cell_slots, rows[1:]):
             state[slot] = row
         if end.ending is None and self.target is not None:
             state[self.target] = rows[-1]

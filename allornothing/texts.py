@@ -39,7 +39,7 @@ def read_declared(tokens, keyword):
     if not tokens.skip(keyword):
         return ()
     names = [tokens.take(NAME)]
-    while tokens.ahead() == NAME:
+    while tokens.kind_ahead() == NAME:
         names.append(tokens.take(NAME))
     return tuple(names)
 
@@ -87,7 +87,7 @@ def read_block(tokens, depth):
 
 
 def read_statement(tokens, depth):
-    word = tokens.ahead()
+    word = tokens.kind_ahead()
     if word == NAME:
         return read_named(tokens)
     if word in PLAIN:
@@ -103,13 +103,13 @@ def read_statement(tokens, depth):
 
 def read_named(tokens):
     """Read one of the statements that begin with a name."""
-    if tokens.ahead(1) == "(":
+    if tokens.kind_ahead(1) == "(":
         return read_call_to(tokens, None)
     target = tokens.take(NAME)
     tokens.take("=")
     if tokens.skip("?"):
         return "input", target
-    if tokens.ahead() == NAME and tokens.ahead(1) == "(":
+    if tokens.kind_ahead() == NAME and tokens.kind_ahead(1) == "(":
         return read_call_to(tokens, target)
     return "set", target, read_expression(tokens)
 
@@ -164,7 +164,7 @@ def read_try(tokens, depth):
         handlers.append(read_handler(tokens, depth))
     last = ()
     # Without a handler there must be a finally.
-    if not handlers or tokens.ahead() == "finally":
+    if not handlers or tokens.kind_ahead() == "finally":
         tokens.take("finally")
         last = read_block(tokens, depth)
     return "try", block, tuple(handlers), last
@@ -212,7 +212,7 @@ def read_sign(tokens):
 
 def read_term(tokens):
     """Read a term: its variable, or None, and its number."""
-    if tokens.ahead() == NAME:
+    if tokens.kind_ahead() == NAME:
         return tokens.take(NAME), 1
     number = read_number(tokens)
     if tokens.skip("*"):

@@ -74,7 +74,7 @@ class Tokens:
         self.found = tokens_of(text)
         self.taken = 0
 
-    def ahead(self, further=0):
+    def kind_ahead(self, further=0):
         """Return the kind of the next token, or of one further on."""
         return self.found[self.taken + further][0]
 
@@ -84,14 +84,14 @@ class Tokens:
 
     def take(self, kind):
         """Take the next token, which must be of this kind, and return its text."""
-        if self.ahead() != kind:
+        if self.kind_ahead() != kind:
             raise InvalidSyntax(self.here())
         self.taken += 1
         return self.found[self.taken - 1][1]
 
     def skip(self, kind):
         """Take the next token if it is of this kind; return whether it is."""
-        if self.ahead() != kind:
+        if self.kind_ahead() != kind:
             return False
         self.taken += 1
         return True

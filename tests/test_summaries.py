@@ -235,6 +235,28 @@ class TestFewest(Checked):
             program = Program.read(text)
             self.assertGreater(self.check_fewest(program, 'f', (), most), 0)
 
+    def test_each_statement_counts(self):
+        # All of these assign x to a; with them stands how many statements they begin.
+        plain = (('a = x', 1), ('a = ? a = x', 2), ('g(x)', 2), ('u = g(x)', 2), ('undo b { a = x }', 2), ('while { } a = x', 2),
+                 ('try { a = x } finally { }', 2), ('try { a = x } except k { }', 2), ('try { raise k } except k { a = x }', 3),
+                 ('try { } finally { a = x }', 2), ('with h(), g(x) { }', 2), ('with g(x), h() { }', 2),
+                 ('with h(), g(x) swallow k { raise k }', 3), ('if { a = x } else { a = x }', 2), ('risk k a = x', 2),
+                 ('try { t(x) } except k { }', 4), ('with h(), h() swallow k { t(x) }', 4), ('try { i() } finally { a = x }', 4))
+        returns = (('a = x return 0', 2), ('undo b { a = x return 0 }', 3), ('try { return 0 } finally { a = x }', 3),
+                   ('with h(), g(x) { return 0 }', 3), ('try { try { return 0 } finally { raise k } } except k { a = x return 0 }', 6))
+        throws = (('a = x raise k', 2), ('undo b { a = x raise k }', 3), ('try { raise k } finally { a = x }', 3),
+                  ('with h(), g(x) { raise k }', 3), ('t(x)', 3), ('with h(), t(x) { }', 3), ('with t(x), h() { }', 3),
+                  ('undo b { t(x) }', 4), ('try { raise k } except k { a = x raise k }', 4), ('a = x risk k', 2))
+        more = ' } } def g(y) { a = y } def h() { } def i() { if { } } def t(y) { a = y raise k } '
+        for constructs, end in ((plain, ''), (returns, 'return 0'), (throws, 'raise k')):
+            for construct, many in constructs:
+                others = many - len(end.split()[:1])
+                longer = 'a = x ' * (others + 1) + end
+                shorter = 'a = x ' * (others - 1) + end
+                for first, second in ((construct, longer), (longer, construct), (construct, shorter), (shorter, construct)):
+                    text = 'globals a b kinds k def f(x) { m(x) } def m(x) { if { ' + first + ' } else { ' + second + more
+                    self.assertGreater(self.check_fewest(Program.read(text), 'f', (), 5), 0)
+
     def test_random(self):
         many = 0
         for start in range(5000, 5400):
