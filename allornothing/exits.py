@@ -3,7 +3,7 @@
 An ending is None for a return, or the pair (place, kind) of a throw.
 """
 
-from allornothing.points import Called, Drop, End, Finish, Restore
+from allornothing.points import Called, Drop, End, Finish, Outcome, Restore
 
 
 class Exits:
@@ -30,10 +30,14 @@ class BodyExits(Exits):
         super().__init__(None)
         self.layout = layout
         self.ends = {}
+        self.outcomes = {}
         self.callers = []
 
     def made(self, ending):
-        self.ends[ending] = End(ending, self.callers)
+        kind = None if ending is None else ending[1]
+        if kind not in self.outcomes:
+            self.outcomes[kind] = Outcome(kind, self.callers)
+        self.ends[ending] = End(ending, self.outcomes[kind])
         return Finish(self.ends[ending], self.layout)
 
 

@@ -176,30 +176,42 @@ class Called(Point):
         self.entries.append(self.site.entry_in(track.state))
         return True
 
-    def after(self, at, end, number):
-        """Return the pair (point, track) behind a track that was kept and one of an end of the function."""
+    def after(self, at, outcome, number):
+        """Return the pair (point, track) behind a track that was kept and one of an outcome of the call."""
         track = self.kept[at]
-        told = end.kept[number]
-        rows = [worth(self.entries[at], pairs) for pairs in end.totals[number]]
+        told = outcome.kept[number]
+        rows = [worth(self.entries[at], pairs) for pairs in outcome.totals[number]]
         state = list(track.state)
         for slot, row in zip(self.site.cell_slots, rows[1:]):
             state[slot] = row
-        if end.ending is None and self.target is not None:
+        if outcome.kind is None and self.target is not None:
             state[self.target] = rows[-1]
-        ahead = self.ahead if end.ending is None else self.exits.towards((self.place, end.ending[1]))
+        ahead = self.ahead if outcome.kind is None else self.exits.towards((self.place, outcome.kind))
         steps = track.steps + self.begun + told.steps
         return ahead, Track(steps, max(track.calls, 1 + told.calls), track.choices + told.choices, state)
 
 
 class End(Point):
-    """The end of a function, by a return (None) or by a throw (place, kind).
+    """The end of a function, by a return (None) or by a throw (place, kind)."""
+
+    def __init__(self, ending, outcome):
+        super().__init__()
+        self.ending = ending
+        self.outcome = outcome
+
+    def onward(self, track):
+        return [(self.outcome, track)]
+
+
+class Outcome(Point):
+    """All ends of a function that are one to its callers: by a return (None), or by a kind.
 
     The callers are the points that call it.
     """
 
-    def __init__(self, ending, callers):
+    def __init__(self, kind, callers):
         super().__init__()
-        self.ending = ending
+        self.kind = kind
         self.callers = callers
         self.totals = []
 

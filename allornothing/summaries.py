@@ -12,7 +12,7 @@ from allornothing.builders import Builder
 from allornothing.cases import asked_case
 from allornothing.engine import MOST_CALLS, MOST_STEPS
 from allornothing.layouts import Layout
-from allornothing.points import Called, End, Track
+from allornothing.points import Called, Outcome, Track
 
 
 class Analysis:
@@ -64,7 +64,7 @@ class Analysis:
         """Send what comes behind a track that a point has kept."""
         if isinstance(point, Called):
             self._call(point)
-        elif isinstance(point, End):
+        elif isinstance(point, Outcome):
             for caller in point.callers:
                 for at in range(len(caller.kept)):
                     self._send_after(caller, at, point, len(point.kept) - 1)
@@ -77,13 +77,13 @@ class Analysis:
         exits = self._asked(point.site.name, point.site.case)
         if len(point.kept) == 1:
             exits.callers.append(point)
-        # A throw that is new here may be a new end of the same function.
-        for end in list(exits.ends.values()):
-            for number in range(len(end.kept)):
-                self._send_after(point, len(point.kept) - 1, end, number)
+        # A throw that is new here may be a new outcome of the same function.
+        for outcome in list(exits.outcomes.values()):
+            for number in range(len(outcome.kept)):
+                self._send_after(point, len(point.kept) - 1, outcome, number)
 
-    def _send_after(self, caller, at, end, number):
-        ahead, behind = caller.after(at, end, number)
+    def _send_after(self, caller, at, outcome, number):
+        ahead, behind = caller.after(at, outcome, number)
         self._send(ahead, behind)
 
 
