@@ -3,15 +3,19 @@
 from allornothing.exits import BodyExits, HandledExits, LastExits, UndoExits, WithExits
 from allornothing.layouts import Site
 from allornothing.nodes import nodes_of
-from allornothing.points import Assign, Called, Drop, Fork, Input, Move, Save
+from allornothing.points import Assign, Called, Drop, Fork, Head, Input, Move, Save
 
 
 class Builder:
-    """Builds points from the end to the start: each needs those that come behind it."""
+    """Builds points from the end to the start: each needs those that come behind it.
+
+    The heads are a dict from the places of the whiles to their points.
+    """
 
     def __init__(self, layout):
         self.layout = layout
         self.exits = BodyExits(layout)
+        self.heads = {}
 
     def body(self):
         """Return the point at which the function begins."""
@@ -52,8 +56,9 @@ def build_if(builder, node, ahead, exits):
 
 
 def build_while(builder, node, ahead, exits):
-    head = Fork(0, [ahead])
+    head = Head(node.place, ahead)
     head.ways.append(builder.block(node.blocks[0], head, exits))
+    builder.heads[node.place] = head
     return Move(1, head)
 
 

@@ -1,5 +1,7 @@
 """Cases that are asked for."""
 
+from allornothing.errors import InvalidCase
+
 
 def asked_case(program, name, case):
     """Return the case that is asked for: None is the one with cells of their own."""
@@ -8,3 +10,12 @@ def asked_case(program, name, case):
     # This raises InvalidCase for what is none.
     program.cells(name, case)
     return case
+
+
+def is_case(program, name, value):
+    """Tell whether any value is a case of a function."""
+    try:
+        program.cells(name, value)
+    except InvalidCase:
+        return False
+    return True

@@ -92,6 +92,14 @@ class Finish(Move):
         return list(self.layout.matrix(state, self.ahead.ending is None))
 
 
+def settled(point, track):
+    """Return the first point that is no move, and the track when it comes there."""
+    while point.is_move:
+        track = point.moved(track)
+        point = point.ahead
+    return point, track
+
+
 class Point:
     """A point where tracks are kept: those that the earlier ones do not span."""
 
@@ -139,6 +147,14 @@ class Fork(Point):
         for choice, way in enumerate(self.ways):
             found.append((way, Track(track.steps + self.begun, track.calls, track.choices + (choice,), track.state)))
         return found
+
+
+class Head(Fork):
+    """The head of the while at a place: what comes to it and back to it ends or goes for a round."""
+
+    def __init__(self, place, ahead):
+        super().__init__(0, [ahead])
+        self.place = place
 
 
 class Input(Point):

@@ -17,7 +17,7 @@ class Program:
         check_names(tree)
         self.globals = tree[0]
         self._tree = tree
-        self._named = {function[0]: function for function in tree[3]}
+        self._named = named_functions(tree)
 
     @classmethod
     def read(cls, text):
@@ -120,3 +120,16 @@ class Program:
         """Tell whether any value is a case of a function."""
         found = self.cases(name)
         return isinstance(case, tuple) and all([isinstance(cell, str) for cell in case]) and case in found
+
+
+class Draft(Program):
+    """A program that is looked into only: its tree is right, but it may be of any size."""
+
+    def __init__(self, tree):
+        self.globals = tree[0]
+        self._tree = tree
+        self._named = named_functions(tree)
+
+
+def named_functions(tree):
+    return {function[0]: function for function in tree[3]}

@@ -86,6 +86,11 @@ def rest_of(table, row):
     return rest
 
 
+def is_spanned(table, row):
+    """Tell whether the rows of a table span a row."""
+    return lead_of(rest_of(table, row)) == len(row)
+
+
 def joined(table, row):
     """Return the table with the span of a table and one more row."""
     rest = primitive(rest_of(table, row))

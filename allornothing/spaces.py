@@ -2,7 +2,7 @@
 
 from allornothing.errors import InvalidRow
 from allornothing.integers import is_integer
-from allornothing.rows import is_row, lead_of, rest_of, rows_of_table, table_of
+from allornothing.rows import is_row, is_spanned, rows_of_table, table_of
 
 
 class Space:
@@ -23,7 +23,7 @@ class Space:
         return rows_of_table(self._table)
 
     def __contains__(self, x):
-        return is_row(x, self._width) and lead_of(rest_of(self._table, x)) == self._width
+        return is_row(x, self._width) and is_spanned(self._table, x)
 
     def __len__(self):
         return len(self._table)

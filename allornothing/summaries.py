@@ -12,7 +12,7 @@ from allornothing.builders import Builder
 from allornothing.cases import asked_case
 from allornothing.engine import MOST_CALLS, MOST_STEPS
 from allornothing.layouts import Layout
-from allornothing.points import Called, Outcome, Track
+from allornothing.points import Called, Outcome, Track, settled
 
 
 class Analysis:
@@ -20,7 +20,7 @@ class Analysis:
 
     def __init__(self, program):
         self.program = program
-        self._exits = {}
+        self._builders = {}
         self._queue = []
         self._sent = 0
 
@@ -33,6 +33,11 @@ class Analysis:
         ends = self._ends(name, case)
         return {ending: runs_of(end) for ending, end in ends.items() if ending is not None and end.kept}
 
+    def built(self, name, case=None):
+        """Return a dict from functions in cases to their builders: this one, and at least all that it needs."""
+        self._ends(name, case)
+        return {asked: builder for asked, builder in self._builders.items()}
+
     def _ends(self, name, case):
         """Return a dict of the ends of a function when all that it needs is known."""
         exits = self._asked(name, asked_case(self.program, name, case))
@@ -44,18 +49,16 @@ class Analysis:
 
     def _asked(self, name, case):
         """Return the ways out of a function in a case, from now on."""
-        if (name, case) not in self._exits:
+        if (name, case) not in self._builders:
             layout = Layout(self.program, name, case)
             builder = Builder(layout)
-            self._exits[(name, case)] = builder.exits
+            self._builders[(name, case)] = builder
             self._send(builder.body(), Track(0, 1, (), layout.start()))
-        return self._exits[(name, case)]
+        return self._builders[(name, case)].exits
 
     def _send(self, point, track):
         """Let a track go on to a point that may keep it, within the limits of the machine."""
-        while point.is_move:
-            track = point.moved(track)
-            point = point.ahead
+        point, track = settled(point, track)
         if track.steps <= MOST_STEPS and track.calls <= MOST_CALLS and not point.has_seen(track):
             self._sent += 1
             heappush(self._queue, (track.steps, track.calls, track.choices, self._sent, point, track))

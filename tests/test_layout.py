@@ -15,6 +15,10 @@ DEFINED = {
     'spaces': ('Space',),
     'traces': ('traced',),
     'summaries': ('Analysis',),
+    'verdicts': ('verdicts', 'keeps_sums', 'changed_cells', 'change_witness', 'witness'),
+    'papers': ('paper', 'is_paper', 'told_verdicts'),
+    'logs': ('wrapped', 'all_or_nothing', 'forced', 'fewest'),
+    'orders': ('needs', 'orders', 'reordered', 'cheapest', 'repaired'),
 }
 METHODS = {
     'programs': ('kinds keeps functions tree __getitem__ __contains__ __len__ __eq__ statements variables callees reached '

@@ -3,7 +3,7 @@
 import random
 import unittest
 
-from allornothing.errors import InvalidCase, LimitExceeded, UnknownFunction
+from allornothing.errors import LimitExceeded
 from allornothing.machine import Machine
 from allornothing.programs import Program
 from allornothing.rows import reduced
@@ -12,6 +12,7 @@ from allornothing.traces import traced
 from oracle import Oracle
 from samples import Sample
 from test_traces import size_of
+from wrong import check_function_and_case
 
 
 def flat(matrix):
@@ -353,15 +354,7 @@ class TestAnswers(unittest.TestCase):
     def test_errors(self):
         analysis = Analysis(Program.read(self.TEXT))
         for call in (analysis.returns, analysis.leaves):
-            for name in (None, '', 'a', 'k', ['f'], ('f',), True, {}, 1):
-                for case in (None, (), 5):
-                    with self.assertRaises(UnknownFunction) as caught:
-                        call(name, case)
-                    self.assertIs(caught.exception.name, name)
-            for case in ((), ['p'], ('x',), ('p', 'p'), 'p', ('k',), 0, True, False, {}, ('',), (None,)):
-                with self.assertRaises(InvalidCase) as caught:
-                    call('f', case)
-                self.assertIs(caught.exception.value, case)
+            check_function_and_case(self, call)
         self.assertEqual(len(analysis.leaves('h', ())), len(analysis.leaves('h')))
 
     def test_stands_in_the_class(self):
