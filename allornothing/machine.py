@@ -19,20 +19,20 @@ class Machine:
     def __call__(self, name, case, entry, choices):
         """Run a function; return (kind, place, cells, result, used)."""
         check_run(self.program, name, case, entry, choices)
-        return self._outcome(name, case, entry, self._started(entry, Supply(choices)))
+        return self._outcome(name, case, self._started(entry, Supply(choices)))
 
     def passings(self, name, case, entry, choices):
         """Return the pairs (function, place) of the risks that a run passes."""
         check_run(self.program, name, case, entry, choices)
         run = self._started(entry, Supply(choices))
-        self._outcome(name, case, entry, run)
+        self._outcome(name, case, run)
         return run.passed
 
     def replayed(self, name, case, entry, choices):
         """Return the choices that lead a machine without injections through the same run."""
         check_run(self.program, name, case, entry, choices)
         supply = Supply(choices)
-        self._outcome(name, case, entry, self._started(entry, supply))
+        self._outcome(name, case, self._started(entry, supply))
         return supply.replay
 
     def runs(self, name, case, entry, most, inputs=(0, 1)):
@@ -70,17 +70,21 @@ class Machine:
     def _started(self, entry, supply):
         return Run(self._bodies, self.program.globals, supply, self._armed, Memory(list(entry)))
 
-    def _outcome(self, name, case, entry, run):
-        cells = self.program.cells(name, case)
-        kind, place, result = run_function(run, name, given_by(self._bodies[name].params, case, cells))
-        return kind, place, tuple(run.memory.held[:len(cells)]), result, run.supply.used
+    def _outcome(self, name, case, run):
+        return outcome_of(run, name, case, self.program.cells(name, case))
 
     def _outcome_within(self, name, case, entry, search):
         """Return the outcome of the run that is tried, or None if it goes too far."""
         try:
-            return self._outcome(name, case, entry, self._started(entry, search))
+            return self._outcome(name, case, self._started(entry, search))
         except (LimitExceeded, TooManyChoices):
             return None
+
+
+def outcome_of(run, name, case, cells):
+    """Run a function, from the entry that the memory of a run holds; return what the machine does."""
+    kind, place, result = run_function(run, name, given_by(run.bodies[name].params, case, cells))
+    return kind, place, tuple(run.memory.held[:len(cells)]), result, run.supply.used
 
 
 def given_by(params, case, cells):

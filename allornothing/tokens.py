@@ -95,3 +95,22 @@ class Tokens:
             return False
         self.taken += 1
         return True
+
+    def word_ahead(self):
+        """Return the text of the next token, empty at the end."""
+        return self.found[self.taken][1]
+
+    def skip_word(self, word):
+        """Take the next token if this is its text; return whether it is."""
+        if self.word_ahead() != word:
+            return False
+        self.taken += 1
+        return True
+
+    def take_word(self, words):
+        """Take the next token, which must be one of these words, and return it."""
+        word = self.word_ahead()
+        if word not in words:
+            raise InvalidSyntax(self.here())
+        self.taken += 1
+        return word

@@ -58,14 +58,14 @@ class Oracle:
         self.passings = []
         self.replay = []
         numbers = list(entry)
-        boxes = {one: [numbers.pop(0)] for one in self.shared}
+        boxes = {one: self.box(one, numbers.pop(0)) for one in self.shared}
         self.globals = dict(boxes)
         params = self.functions[name][0]
         cells = [boxes[one] for one in self.shared]
         named = [one for one, by_place in params if by_place]
         for param, cell in zip(named, case):
             if param == cell:
-                boxes[param] = [numbers.pop(0)]
+                boxes[param] = self.box(param, numbers.pop(0))
                 cells.append(boxes[param])
             else:
                 boxes[param] = boxes[cell]
@@ -81,6 +81,10 @@ class Oracle:
             kind, place = thrown.kind, thrown.place
         told = tuple(box[0] for box in cells)
         return kind, place, told, result, self.used, self.passings, self.replay
+
+    def box(self, name, number):
+        """The box of a cell."""
+        return [number]
 
     def take(self, ways=None):
         self.ways.append(ways)

@@ -19,13 +19,21 @@ DEFINED = {
     'papers': ('paper', 'is_paper', 'told_verdicts'),
     'logs': ('wrapped', 'all_or_nothing', 'forced', 'fewest'),
     'orders': ('needs', 'orders', 'reordered', 'cheapest', 'repaired'),
+    'stores': ('Store', 'is_safe', 'transaction', 'Database'),
+    'changes': ('changes', 'worse', 'stale'),
+    'questions': ('Condition', 'where', 'read_condition', 'rows_of', 'selected', 'ask'),
+    'console': ('Console',),
 }
 METHODS = {
-    'programs': ('kinds keeps functions tree __getitem__ __contains__ __len__ __eq__ statements variables callees reached '
-                 'places replaced read cases cells'),
-    'machine': '__call__ passings replayed runs injected injections within',
-    'spaces': 'width rows __contains__ __len__ __bool__ __eq__ __or__ is_within',
-    'summaries': 'returns leaves',
+    'Program': ('kinds keeps functions tree __getitem__ __contains__ __len__ __eq__ statements variables callees reached '
+                'places replaced read cases cells'),
+    'Machine': '__call__ passings replayed runs injected injections within',
+    'Space': 'width rows __contains__ __len__ __bool__ __eq__ __or__ is_within',
+    'Analysis': 'returns leaves',
+    'Store': 'perform current log pending crashes recovered',
+    'Database': 'perform current events crashed',
+    'Condition': '__call__ __and__ __or__ __invert__ parts __eq__',
+    'Console': 'execute',
 }
 
 
@@ -51,8 +59,12 @@ class TestLayout(unittest.TestCase):
             defined = [node.name for node in body if isinstance(node, (ast.FunctionDef, ast.ClassDef))]
             for name in names:
                 self.assertIn(name, defined)
-            if module in METHODS:
-                inner = [node for node in body if isinstance(node, ast.ClassDef) and node.name == names[0]][0].body
-                methods = [node.name for node in inner if isinstance(node, ast.FunctionDef)]
-                for name in METHODS[module].split():
-                    self.assertIn(name, methods)
+            for node in body:
+                if isinstance(node, ast.ClassDef) and node.name in METHODS:
+                    methods = [inner.name for inner in node.body if isinstance(inner, ast.FunctionDef)]
+                    for name in METHODS[node.name].split():
+                        self.assertIn(name, methods)
+
+    def test_errors(self):
+        body = ast.parse((PACKAGE / 'errors.py').read_text(encoding='ascii')).body
+        self.assertEqual(len([node for node in body if isinstance(node, ast.ClassDef)]), 21)

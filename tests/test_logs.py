@@ -11,7 +11,7 @@ from allornothing.summaries import Analysis
 from allornothing.texts import parse
 from allornothing.verdicts import verdicts
 from samples import Sample
-from wrong import check_function_and_case
+from wrong import ANY, check_function_and_case
 
 CALLS = ('set', 'set', 'set', 'call', 'call', 'call', 'if', 'if', 'while', 'risk', 'try', 'try', 'undo', 'with', 'return', 'raise')
 MIXED = ('set',) * 6 + ('input', 'call', 'if', 'while', 'risk', 'risk', 'raise', 'try', 'undo', 'with', 'return')
@@ -86,7 +86,7 @@ class TestWrapped(unittest.TestCase):
                 wrapped(program, 'f', value)
             self.assertIs(caught.exception.name, value)
         for values, wrong in ((('c',), 'c'), (('a', 'k'), 'k'), (('a', 'f', 'g'), 'f'), ((None,), None), ((1, 2), 1), ((['a'],), ['a']),
-                              (('p', ('a',)), ('a',)), (('u', True), True), (('x', 'v', 'u'), 'v'), (('',), ''), (({},), {})):
+                              (('p', ('a',)), ('a',)), (('u', True), True), (('x', 'v', 'u'), 'v'), (('',), ''), (({},), {}), ((ANY,), ANY)):
             with self.assertRaises(UnknownName) as caught:
                 wrapped(program, 'f', values)
             self.assertEqual(caught.exception.name, wrong)

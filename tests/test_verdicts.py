@@ -11,7 +11,7 @@ from allornothing.verdicts import change_witness, changed_cells, keeps_sums, ver
 from oracle import Oracle
 from samples import Sample
 from test_traces import size_of
-from wrong import check_function_and_case
+from wrong import ANY, check_function_and_case
 
 
 def told(text, name='f', case=None):
@@ -35,13 +35,6 @@ def entries_of(program, name, case):
         for more in range(at):
             found.append(tuple({at: 1, more: -1}.get(other, 0) for other in range(size)))
     return found
-
-
-class Anything:
-    """Equal to all values."""
-
-    def __eq__(self, other):
-        return True
 
 
 class Checked(unittest.TestCase):
@@ -210,7 +203,7 @@ class TestByHand(Checked):
             self.assertEqual(changed_cells(analysis, 'f', place, kind), [])
             self.assertIsNone(witness(analysis, 'f', place, kind))
             self.assertIsNone(change_witness(analysis, 'f', place, kind, 'a'))
-        for cell in ('b', 'q', Anything(), None, 0, 1, True, ['a'], {}, ('a',), '', 'k', 'f'):
+        for cell in ('b', 'q', ANY, None, 0, 1, True, ['a'], {}, ('a',), '', 'k', 'f'):
             self.assertIsNone(change_witness(analysis, 'f', 2, 'k', cell))
         self.assertIsNone(change_witness(analysis, 'f', 2, 'k', 'p', ('a',)))
         self.assertIsNotNone(change_witness(analysis, 'f', 2, 'k', 'a', ('a',)))

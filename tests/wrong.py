@@ -2,8 +2,20 @@
 
 from allornothing.errors import InvalidCase, UnknownFunction
 
-NO_NAMES = (None, 'zz', 'a', '', ['f'], ('f',), True, False, {}, 1, 0.5)
-NO_CASES = (('x',), ('p', 'p', 'p'), ('k',), 'p', 'f', 0, True, False, {}, ('',), (None,), (None, None), (['p'],), [], ('zz', 'zz'))
+
+class Anything:
+    """Equal to all values."""
+
+    def __eq__(self, other):
+        return True
+
+    def __hash__(self):
+        return hash('a')
+
+
+ANY = Anything()
+NO_NAMES = (None, 'zz', 'a', '', ['f'], ('f',), True, False, {}, 1, 0.5, ANY)
+NO_CASES = (('x',), ('p', 'p', 'p'), ('k',), 'p', 'f', 0, True, False, {}, ('',), (None,), (None, None), (['p'],), [], ('zz', 'zz'), ANY, (ANY,), (ANY, ANY))
 
 
 def check_function_and_case(test, call, name='f', case=('p',), none=True):
