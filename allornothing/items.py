@@ -49,7 +49,7 @@ def statements_called(program, statements):
 
 
 def names_of(own, far, names_in, shared, owners):
-    """Return the cells that statements name, and the globals that those named which are called."""
+    """Return the cells that own statements name, and the globals that those called further on name."""
     found = [owners.get(name, name) for statement in own for name in names_in(statement)]
     return found + [name for statement in far for name in names_in(statement) if name in shared]
 
