@@ -4,10 +4,10 @@ from allornothing.machine import entry_size
 from allornothing.points import numbers_of
 from allornothing.rows import reduced
 from allornothing.summaries import Analysis
-from allornothing.verdicts import CHANGED, SAME, SOUND, change_witness, changed_cells, verdicts, witness
+from allornothing.verdicts import CHANGED, SOUND, change_witness, changed_cells, verdicts, witness
 
 NEVER = "never"
-RANKS = (NEVER, SAME, SOUND, CHANGED)
+RANKS = ("never", "same", "sound", "changed")
 
 
 def changes(old, new):
